@@ -1,0 +1,1 @@
+"""Knitting charts compiled to code of a machine with two beds of needles."""
