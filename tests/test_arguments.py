@@ -4,9 +4,13 @@ import copy
 import unittest
 
 from heldloops.charts import check_chart, fabric_of, mirror_chart, row_of, turn_chart, weave
-from heldloops.errors import WrongChart
+from heldloops.codes import cost, read_code, write_code
+from heldloops.errors import MachineFault, WrongChart
 from heldloops.fabrics import difference, mirrored, turned, undone
+from heldloops.machine import Machine, fabric_of_code
+from heldloops.texts import read_chart, write_chart
 from samples import EXAMPLE, EXAMPLE_FABRIC, random_charts
+from slow_machine import random_codes
 
 
 class ArgumentsTest(unittest.TestCase):
@@ -22,6 +26,26 @@ class ArgumentsTest(unittest.TestCase):
         for chart in [EXAMPLE] + random_charts(11, 60):
             for function in (check_chart, fabric_of, row_of, mirror_chart, turn_chart):
                 self.check(function, chart)
+
+    def test_texts(self):
+        for chart in [EXAMPLE] + random_charts(13, 60):
+            self.check(write_chart, chart)
+            self.check(read_chart, write_chart(chart))
+
+    def test_code(self):
+        for code, width, reach in random_codes(14, 60, 30):
+            self.check(fabric_of_code, code, width, reach)
+            self.check(write_code, code)
+            self.check(cost, code)
+            self.check(read_code, write_code(code))
+
+    def test_code_with_faults(self):
+        for code, width, reach in random_codes(15, 60, 30, 1):
+            before = list(code)
+            machine = Machine(width, reach)
+            with self.assertRaises(MachineFault):
+                machine.run(code)
+            self.assertEqual(code, before)
 
     def test_wrong_charts(self):
         for last in (("work", "right", [("join", 5, "left", "knit", "a")]), ("move", [(0, "left"), (9, "left")])):
@@ -50,6 +74,25 @@ class ArgumentsTest(unittest.TestCase):
         check_chart(chart).clear()
         self.assertEqual(chart, EXAMPLE)
         self.assertEqual(fabric_of(chart), EXAMPLE_FABRIC)
+
+    def test_fabrics_of_a_chart_that_are_spoilt_within(self):
+        chart = copy.deepcopy(EXAMPLE)
+        loops, crossings, resting, _ = fabric_of(chart)
+        for part in [loop[2] for loop in loops] + [loop[3] for loop in loops] + [overs for _, _, overs in crossings]:
+            part.append(("z", 0))
+        for column in resting:
+            column.clear()
+        self.assertEqual(chart, EXAMPLE)
+        self.assertEqual(fabric_of(chart), EXAMPLE_FABRIC)
+
+    def test_lines_of_a_read_chart_are_their_own(self):
+        text = write_chart(EXAMPLE + EXAMPLE)
+        for line in read_chart(text):
+            line[-1].append("spoilt")
+        self.assertEqual(read_chart(text), EXAMPLE + EXAMPLE)
+        chart = read_chart("right: pass\nright: pass")
+        chart[0][2].clear()
+        self.assertEqual(chart[1], ("work", "right", [("pass",)]))
 
 
 if __name__ == "__main__":

@@ -36,7 +36,28 @@ INTERFACE = {
         "mirror_chart": ["chart"],
         "turn_chart": ["chart"],
     },
+    "texts.py": {
+        "read_chart": ["text"],
+        "write_chart": ["chart"],
+    },
+    "machine.py": {
+        "Machine": ["width", "reach"],
+        "fabric_of_code": ["code", "width", "reach"],
+    },
+    "codes.py": {
+        "read_code": ["text"],
+        "write_code": ["code"],
+        "cost": ["code"],
+    },
 }
+
+METHODS = {
+    "machine.py": {
+        "Machine": {"step": ["instruction"], "run": ["code"], "stack": ["bed", "i"], "fabric": []},
+    },
+}
+
+FIELDS = {"Machine": ["width", "reach", "rack", "done"]}
 
 
 class InterfaceTest(unittest.TestCase):
@@ -55,6 +76,22 @@ class InterfaceTest(unittest.TestCase):
             for name, arguments in told.items():
                 if arguments is not None:
                     self.assertEqual(list(inspect.signature(getattr(module, name)).parameters), arguments, name)
+
+    def test_methods_stand_in_the_body_of_their_class(self):
+        for path, classes in METHODS.items():
+            found = {node.name: node for node in read_package("heldloops").file(path).of(ast.ClassDef)}
+            for name, methods in classes.items():
+                bodies = {node.name: node for node in found[name].body if isinstance(node, ast.FunctionDef)}
+                for method, arguments in methods.items():
+                    told = [argument.arg for argument in bodies[method].args.args]
+                    self.assertEqual(told, ["self"] + arguments, method)
+
+    def test_fields_are_set_when_an_object_is_made(self):
+        for path, classes in METHODS.items():
+            module = importlib.import_module("heldloops." + path[:-len(".py")])
+            for name in classes:
+                made = getattr(module, name)(5, 4)
+                self.assertEqual([field for field in FIELDS[name] if field not in vars(made)], [])
 
     def test_no_function_changes_a_list_that_it_was_passed(self):
         changed = []

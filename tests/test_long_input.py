@@ -1,22 +1,16 @@
 """Charts of thousands of lines, and lines of thousands of commands (point 7), in seconds at most."""
 
-import time
 import unittest
 
 from heldloops.charts import check_chart, fabric_of, mirror_chart, row_of, turn_chart, weave
+from heldloops.codes import cost, read_code, write_code
+from heldloops.errors import CodeFault, TextFault
 from heldloops.fabrics import difference, mirrored, turned, undone
+from heldloops.texts import read_chart, write_chart
+from timed import TimedTest
 
-# Each of these takes less than a second here; what is quadratic takes minutes.
-SECONDS = 20
 
-
-class LongInputTest(unittest.TestCase):
-
-    def setUp(self):
-        self.began = time.perf_counter()
-
-    def tearDown(self):
-        self.assertLess(time.perf_counter() - self.began, SECONDS)
+class LongInputTest(TimedTest):
 
     def check_all(self, chart, widths):
         self.assertEqual(check_chart(chart), widths)
@@ -67,6 +61,31 @@ class LongInputTest(unittest.TestCase):
         order = [many - 1] + list(range(many - 1))
         self.assertEqual(weave(order, list(range(many))), [(column, "right") for column in range(many - 2, -1, -1)])
         self.assertEqual(len(weave(list(range(600))[::-1], list(range(600)))), 600 * 599 // 2)
+
+    def test_texts_of_many_lines(self):
+        chart = [("work", "right", [("tuck", "a")] * 100)] + [("work", "left", [("knit", "a"), ("purl", "b")] * 50)] * 3000
+        chart += [("move", [(k, "left") for k in range(99)])] * 500
+        self.assertEqual(read_chart(write_chart(chart)), chart)
+
+    def test_texts_of_long_lines(self):
+        chart = [("work", "left", [("knit", "a"), ("pass",)] * 50000), ("work", "right", [("tuck", "abcdefgh")] * 300000),
+                 ("move", [(k % 1000, "right") for k in range(50000)])]
+        text = write_chart(chart)
+        self.assertEqual(read_chart(text), chart)
+        self.assertEqual(read_chart(text.replace(" left", "left").replace(", ", ",")), chart)
+
+    def test_texts_of_long_words(self):
+        for text in ("right: knit " + "a" * 500000, "right: " + "1" * 500000 + " pass", "move: " + "0" * 500000):
+            self.assertRaises(TextFault, read_chart, text)
+        self.assertEqual(read_chart("right:" + " " * 500000 + "pass"), [("work", "right", [("pass",)])])
+        for text in ("rack " + "1" * 500000, "knit front 1 " + "a" * 500000, "rack" + " " * 500000 + "1"):
+            self.assertRaises(CodeFault, read_code, text)
+
+    def test_long_code(self):
+        code = [("xfer", "front", 9), ("rack", -3), ("knit", "back", 12, "abc"), ("tuck", "back", 13, "d")] * 50000
+        self.assertEqual(read_code(write_code(code)), code)
+        self.assertEqual(cost(code), 150000)
+        self.assertEqual(cost([("drop", "front", k) for k in range(200000)]), 1)
 
 
 if __name__ == "__main__":
