@@ -2,6 +2,7 @@
 
 import ast
 import os
+import warnings
 
 ROOT = os.path.dirname(os.path.dirname(os.path.abspath(__file__)))
 FUNCTIONS = (ast.FunctionDef, ast.AsyncFunctionDef)
@@ -17,7 +18,10 @@ class File:
     def __init__(self, path, text):
         self.path = path
         self.text = text
-        self.tree = ast.parse(text)
+        # What Python warns of is held by a rule of its own.
+        with warnings.catch_warnings():
+            warnings.simplefilter("ignore")
+            self.tree = ast.parse(text)
         self.tree.parent = None
         self.nodes = list(ast.walk(self.tree))
         for node in self.nodes:
@@ -80,6 +84,26 @@ def function_around(node):
     while node is not None and not isinstance(node, FUNCTIONS + (ast.Lambda,)):
         node = node.parent
     return node
+
+
+def inside(node, top):
+    """The nodes around the node, up to the top one and without it."""
+    found = []
+    node = node.parent
+    while node is not None and node is not top:
+        found.append(node)
+        node = node.parent
+    return found
+
+
+def word(node):
+    """The name, if the node is a plain name."""
+    return node.id if isinstance(node, ast.Name) else None
+
+
+def called(node):
+    """The plain name that the node calls, if it is a call of one."""
+    return word(node.func) if isinstance(node, ast.Call) else None
 
 
 def is_docstring(node):

@@ -168,7 +168,10 @@ def counts_of_arguments(package):
                 if made:
                     takes[node.name] = (made[0].args, 1)
     for file in package.files:
+        nested = {node.name for node in file.of(*FUNCTIONS) if function_around(node) is not None}
         for node in file.calls(*takes):
+            if node.func.id in nested:
+                continue
             taken, own = takes[node.func.id]
             most = len(taken.posonlyargs + taken.args + taken.kwonlyargs) - own
             least = most - len(taken.defaults) - sum(one is not None for one in taken.kw_defaults)

@@ -1,16 +1,16 @@
-"""The rules of ../shared/LANGUAGE.md about statements, expressions and calls of builtins.
+"""The rules of ../shared/LANGUAGE.md about statements, expressions and calls of builtins, by what the code shows.
 
-Where a rule allows more under conditions that a test cannot well see, these tests are narrower than the rule.
+Further conditions of the same rules stand in rules_of_statements and rules_of_calls.
 """
 
 import ast
 import builtins
 
-from package_files import BASE_ERRORS, COMPREHENSIONS, FUNCTIONS, bases_of, fault, function_around, is_method
+from package_files import BASE_ERRORS, COMPREHENSIONS, FUNCTIONS, bases_of, called, fault, function_around, is_method
 from rules_of_files import METHODS_WITH_UNDERSCORES
 
 STATEMENTS = ("FunctionDef ClassDef Return Delete Assign AugAssign AnnAssign For While If With Match Raise Try Assert "
-              "Import ImportFrom Nonlocal Expr Pass Break Continue").split()
+              "Import ImportFrom Global Nonlocal Expr Pass Break Continue").split()
 EXPRESSIONS = ("BoolOp NamedExpr BinOp UnaryOp Lambda IfExp Dict Set ListComp SetComp DictComp GeneratorExp Yield "
                "YieldFrom Compare Call FormattedValue JoinedStr Constant Attribute Subscript Starred Name List Tuple "
                "Slice").split()
@@ -22,13 +22,15 @@ NAMED = ("int", "str", "bool", "bytes", "list", "tuple", "dict", "set", "object"
 KEYWORDS = {"sorted": ("key", "reverse"), "min": ("key", "default"), "max": ("key", "default"), "sum": ("start",),
             "enumerate": ("start",), "zip": ("strict",)}
 KEY_FUNCTIONS = ("len", "int", "str", "abs", "sum", "min", "max", "tuple")
+PRODUCTS = ("product", "combinations", "permutations")
 TAKERS = ("list", "tuple", "dict", "sorted", "sum", "any", "all", "min", "max")
 STRING_METHODS = (
     "append clear copy count endswith extend find get index insert isalnum isalpha isdigit islower isspace isupper "
     "items join keys ljust lower lstrip partition pop remove replace reverse rfind rjust rpartition rsplit rstrip "
     "setdefault split splitlines startswith strip update upper values zfill bit_length title capitalize swapcase "
     "casefold center expandtabs removeprefix removesuffix rindex isascii isdecimal isnumeric istitle isidentifier "
-    "isprintable translate sort format encode decode hex add discard appendleft popleft extendleft rotate").split()
+    "isprintable translate sort format encode decode hex add discard appendleft popleft extendleft rotate "
+    "from_iterable maketrans").split()
 CHANGING = ("append", "clear", "extend", "insert", "pop", "remove", "reverse", "setdefault", "update", "sort", "add",
             "discard")
 VIEWS = ("items", "keys", "values")
@@ -153,11 +155,12 @@ def builtin_names(package):
                 continue
             if file.path == "__main__.py" and word == "print":
                 continue
-            called = isinstance(node.parent, ast.Call) and node.parent.func is node
+            directly = isinstance(node.parent, ast.Call) and node.parent.func is node
             mapped = isinstance(node.parent, ast.Call) and getattr(node.parent.func, "id", None) == "map"
             key = isinstance(node.parent, ast.keyword) and word in KEY_FUNCTIONS
-            if not (called and word in CALLED or mapped or key or word in NAMED and not called):
-                if not (called and word in package.error_names):
+            key = key or called(node.parent) == "accumulate" and word in ("min", "max")
+            if not (directly and word in CALLED or mapped or key or word in NAMED and not directly):
+                if not (directly and word in package.error_names):
                     yield fault(file, node, f"the builtin {word}")
         for node in file.of(ast.Attribute):
             if getattr(node.value, "id", None) == "sys" and node.attr not in ("stdin", "stdout", "stderr", "argv", "exit"):
@@ -174,7 +177,9 @@ def keywords(package):
                 if any(name not in KEYWORDS.get(word, ()) for name in given):
                     yield fault(file, node, f"a keyword of {word}")
             if isinstance(node.func, ast.Attribute) and node.func.attr in STRING_METHODS:
-                if given and node.func.attr not in ("sort", "format"):
+                # An own method of such a name takes keywords in the class that defines it.
+                own = getattr(node.func.value, "id", None) == "self" and node.func.attr in package.methods
+                if given and node.func.attr not in ("sort", "format") and not own:
                     yield fault(file, node, f"a keyword of {node.func.attr}")
 
 
@@ -253,13 +258,19 @@ def is_iterated(node):
         return parent.iter is node
     if isinstance(parent, ast.Compare):
         return isinstance(parent.ops[0], (ast.In, ast.NotIn)) and not isinstance(node, ast.GeneratorExp)
+    # What is kept in a name is held by the rules of iterators in rules_of_library.
+    if isinstance(parent, ast.Assign):
+        return called(node) != "map" and isinstance(parent.targets[0], ast.Name)
     if isinstance(parent, ast.Call) and node in parent.args:
+        if called(parent) in ("min", "max") and len(parent.args) > 1:
+            return False
         word = getattr(parent.func, "id", None)
         joined = isinstance(parent.func, ast.Attribute) and parent.func.attr == "join" and is_text(parent.func.value)
         if isinstance(node, ast.GeneratorExp):
             return joined or word in TAKERS or word == "next"
-        ranged = word in ("len", "reversed") and getattr(node.func, "id", None) == "range"
-        return joined or ranged or word in TAKERS + ("enumerate", "zip", "iter")
+        ranged = word in ("len", "reversed") and called(node) == "range"
+        measured = word == "len" and isinstance(node.func, ast.Attribute)
+        return joined or ranged or measured or word in TAKERS + ("enumerate", "zip", "iter") + PRODUCTS
     return False
 
 
