@@ -4,6 +4,7 @@ from heldloops.errors import WrongChart
 
 OPPOSITE = {"left": "right", "right": "left", "knit": "purl", "purl": "knit"}
 COLUMNS_TAKEN = {"knit": 1, "purl": 1, "tuck": 0, "pass": 1, "drop": 1}
+MOST_JOINED = 4
 
 
 def check_chart(chart):
@@ -25,7 +26,7 @@ def width_behind(commands, width, line):
     left = 0
     for item, command in enumerate(commands):
         many = columns_taken(command)
-        if many > width - taken or (command[0] == "join" and not 2 <= many <= 4):
+        if many > width - taken or (command[0] == "join" and not 2 <= many <= MOST_JOINED):
             raise WrongChart(line, item)
         taken += many
         if command[0] != "drop":

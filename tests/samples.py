@@ -73,6 +73,37 @@ def random_way(source):
     return source.choice(["left", "right"])
 
 
+def steady_chart(seed, lines, width):
+    """A right chart whose rows all have this width, though their lines close and open columns."""
+    source = random.Random(seed)
+    chart = [("work", "right", [("tuck", "a")] * width)]
+    for _ in range(lines):
+        if source.random() < 0.2:
+            columns = [source.randrange(width - 1) for _ in range(width // 3)] if width > 1 else []
+            chart.append(("move", [(column, random_way(source)) for column in columns]))
+        else:
+            chart.append(("work", random_way(source), steady_commands(source, width)))
+    return chart
+
+
+def steady_commands(source, width):
+    """Commands that take and leave a row of this width: a tuck for each column that a join or drop closes."""
+    commands, missing = [], 0
+    while width > 0:
+        word = source.choice(["knit", "knit", "knit", "purl", "purl", "pass", "join", "drop"])
+        many = source.randint(2, 4) if word == "join" else 1
+        if many <= width:
+            yarn = source.choice(["a", "b"])
+            kinds = {"join": ("join", many, random_way(source), source.choice(["knit", "purl"]), yarn)}
+            commands.append(kinds.get(word, (word,) if word in ("pass", "drop") else (word, yarn)))
+            missing += {"join": many - 1, "drop": 1}.get(word, 0)
+            width -= many
+        if missing and (width == 0 or source.random() < 0.5):
+            commands += [("tuck", source.choice(["a", "b"]))] * missing
+            missing = 0
+    return commands
+
+
 def slow_fabric(chart):
     """The fabric of a chart: every loop is first called by its line and command, and gets its name at the end."""
     row, made, crossed, dropped = [], [], [], []

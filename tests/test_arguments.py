@@ -5,9 +5,12 @@ import unittest
 
 from heldloops.charts import check_chart, fabric_of, mirror_chart, row_of, turn_chart, weave
 from heldloops.codes import cost, read_code, write_code
-from heldloops.errors import MachineFault, WrongChart
+from heldloops.compiling import compile_chart
+from heldloops.errors import MachineFault, TooWide, WrongChart
 from heldloops.fabrics import difference, mirrored, turned, undone
 from heldloops.machine import Machine, fabric_of_code
+from heldloops.moves import carry, exchange, space
+from heldloops.planning import least_plan
 from heldloops.texts import read_chart, write_chart
 from samples import EXAMPLE, EXAMPLE_FABRIC, random_charts
 from slow_machine import random_codes
@@ -52,7 +55,32 @@ class ArgumentsTest(unittest.TestCase):
             chart = EXAMPLE + [last]
             before = copy.deepcopy(chart)
             self.assertRaises(WrongChart, check_chart, chart)
+            self.assertRaises(WrongChart, compile_chart, chart, 9, 1)
+            self.assertRaises(TooWide, compile_chart, EXAMPLE, 6, 1)
             self.assertEqual(chart, before)
+
+    def test_compiling(self):
+        for chart in [EXAMPLE] + random_charts(16, 60):
+            for reach in (1, 4, 50):
+                self.check(compile_chart, chart, 99, reach)
+
+    def test_moves_and_plans(self):
+        for old, new in (([], []), ([1, 2, 6, 9], [2, 4, 5, 11]), ([3, 4, 5], [0, 4, 9]), ([2, 5], [2, 5])):
+            for reach in (1, 2, 50):
+                self.check(space, old, new, reach)
+                self.check(least_plan, old, new, reach)
+                self.check(carry, 5, 1, reach)
+                self.check(exchange, 5, "left", reach)
+
+    def test_code_that_is_changed_later(self):
+        before = copy.deepcopy(EXAMPLE)
+        code = compile_chart(EXAMPLE, 7, 1)
+        code.clear()
+        self.assertEqual(EXAMPLE, before)
+        self.assertNotEqual(compile_chart(EXAMPLE, 7, 1), [])
+        plan = least_plan([1, 3], [2, 4], 1)
+        plan[0][1].clear()
+        self.assertEqual(least_plan([1, 3], [2, 4], 1), [(1, [0, 1])])
 
     def test_functions_of_fabrics(self):
         fabrics = [EXAMPLE_FABRIC] + [fabric_of(chart) for chart in random_charts(12, 60)]

@@ -49,6 +49,17 @@ INTERFACE = {
         "write_code": ["code"],
         "cost": ["code"],
     },
+    "moves.py": {
+        "carry": ["i", "j", "reach"],
+        "space": ["old", "new", "reach"],
+        "exchange": ["i", "over", "reach"],
+    },
+    "planning.py": {
+        "least_plan": ["old", "new", "reach"],
+    },
+    "compiling.py": {
+        "compile_chart": ["chart", "width", "reach"],
+    },
 }
 
 METHODS = {
