@@ -1,4 +1,11 @@
-"""A bed of needles."""
+"""The two beds of needles."""
+
+OTHER_BED = {"front": "back", "back": "front"}
+
+
+def faced(bed, needle, rack):
+    """The number of the needle of the other bed that this one faces, which need not be there."""
+    return needle + rack if bed == "back" else needle - rack
 
 
 class Bed:

@@ -1,9 +1,8 @@
 """The machine with two beds of needles, and the fabric that code makes on it."""
 
-from heldloops.beds import Bed, pairs_between
+from heldloops.beds import OTHER_BED, Bed, faced, pairs_between
 from heldloops.errors import Facing, NeedleEmpty, NeedleFull, OutOfBed, OutOfReach
 
-OTHER_BED = {"front": "back", "back": "front"}
 SIDE_OF_BED = {"front": "knit", "back": "purl"}
 NOTHING = ((), ())
 
@@ -55,31 +54,27 @@ class Machine:
                 raise OutOfReach(self.done)
             return
         word, bed, needle = instruction[:3]
-        faced = self.faced(bed, needle)
-        if not 0 <= needle < self.width or word == "xfer" and not 0 <= faced < self.width:
+        opposite = faced(bed, needle, self.rack)
+        if not 0 <= needle < self.width or word == "xfer" and not 0 <= opposite < self.width:
             raise OutOfBed(self.done)
         holds = needle in self.beds[bed].stacks
         if word == "knit" and not holds:
             raise NeedleEmpty(self.done)
         if word == "tuck" and holds:
             raise NeedleFull(self.done)
-        if word in ("knit", "tuck") and faced in self.beds[OTHER_BED[bed]].stacks:
+        if word in ("knit", "tuck") and opposite in self.beds[OTHER_BED[bed]].stacks:
             raise Facing(self.done)
-
-    def faced(self, bed, needle):
-        """The number of the needle that this one faces, which need not be there."""
-        return needle + self.rack if bed == "back" else needle - self.rack
 
     def transfer(self, bed, needle):
         """Moves the loops of the needle to the needle that it faces."""
         if needle in self.beds[bed].stacks:
             moved = self.beds[bed].take(needle)
-            faced = self.faced(bed, needle)
+            opposite = faced(bed, needle, self.rack)
             other = self.beds[OTHER_BED[bed]]
-            held = other.stacks.get(faced, NOTHING)
+            held = other.stacks.get(opposite, NOTHING)
             front, back = (moved, held) if bed == "front" else (held, moved)
             left, right = (back, front) if self.way > 0 else (front, back)
-            other.put(faced, (front[0] + back[0], left[1] + right[1]))
+            other.put(opposite, (front[0] + back[0], left[1] + right[1]))
 
     def drop(self, bed, needle):
         """Drops the loops of the needle."""

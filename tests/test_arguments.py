@@ -3,17 +3,23 @@
 import copy
 import unittest
 
+from drawn_code import drawn_codes
 from heldloops.charts import check_chart, fabric_of, mirror_chart, row_of, turn_chart, weave
 from heldloops.codes import cost, read_code, write_code
 from heldloops.compiling import compile_chart
-from heldloops.errors import MachineFault, TooWide, WrongChart
+from heldloops.errors import KnitError, MachineFault, TooWide, WrongChart
 from heldloops.fabrics import difference, mirrored, turned, undone
+from heldloops.judging import judge
 from heldloops.machine import Machine, fabric_of_code
 from heldloops.moves import carry, exchange, space
 from heldloops.planning import least_plan
+from heldloops.reading_back import chart_of_code
+from heldloops.shortening import shorten
 from heldloops.texts import read_chart, write_chart
+from heldloops.tidying import tidy
 from samples import EXAMPLE, EXAMPLE_FABRIC, random_charts
 from slow_machine import random_codes
+from test_shorten import PASSES
 
 
 class ArgumentsTest(unittest.TestCase):
@@ -71,6 +77,42 @@ class ArgumentsTest(unittest.TestCase):
                 self.check(least_plan, old, new, reach)
                 self.check(carry, 5, 1, reach)
                 self.check(exchange, 5, "left", reach)
+
+    def test_shortening(self):
+        for code, width, reach in list(drawn_codes(17, 60)) + list(random_codes(17, 60, 30)):
+            for passes in ([], PASSES, PASSES[::-1]) + tuple([name] for name in PASSES):
+                self.check(shorten, code, width, reach, passes)
+
+    def test_reading_back_and_judging(self):
+        charts = [EXAMPLE] + random_charts(18, 60)
+        for chart, (code, width, reach) in zip(charts, random_codes(18, 61, 12, 0.05)):
+            for told in (code, compile_chart(chart, 99, 2)):
+                self.check(judge, told, chart, 99, 2)
+            self.check(chart_of_code, told, 99, 2)
+            before = list(code)
+            try:
+                chart_of_code(code, width, reach)
+            except KnitError:
+                pass
+            self.assertEqual(code, before)
+
+    def test_tidying(self):
+        for chart in random_charts(19, 60):
+            self.check(tidy, chart + [("move", []), ("move", [])])
+            moves = [line for line in chart if line[0] == "move"]
+            self.check(tidy, chart[:1] + moves + [("work", "left", [("pass",)] * len(chart[0][2]))] + moves)
+
+    def test_charts_and_code_that_are_spoilt_later(self):
+        code = compile_chart(EXAMPLE, 7, 1)
+        before = copy.deepcopy(EXAMPLE)
+        for chart in (chart_of_code(code, 7, 1), chart_of_code(code, 7, 1)):
+            self.assertEqual(fabric_of(chart), EXAMPLE_FABRIC)
+            for line in chart:
+                line[-1].clear()
+        shorten(code, 7, 1, []).clear()
+        tidy(EXAMPLE).clear()
+        self.assertEqual(code, compile_chart(EXAMPLE, 7, 1))
+        self.assertEqual(EXAMPLE, before)
 
     def test_code_that_is_changed_later(self):
         before = copy.deepcopy(EXAMPLE)

@@ -60,6 +60,18 @@ INTERFACE = {
     "compiling.py": {
         "compile_chart": ["chart", "width", "reach"],
     },
+    "shortening.py": {
+        "shorten": ["code", "width", "reach", "passes"],
+    },
+    "reading_back.py": {
+        "chart_of_code": ["code", "width", "reach"],
+    },
+    "tidying.py": {
+        "tidy": ["chart"],
+    },
+    "judging.py": {
+        "judge": ["code", "chart", "width", "reach"],
+    },
 }
 
 METHODS = {
