@@ -122,17 +122,17 @@ class ShortenTest(TimedTest):
             self.check(code, width, reach, [PASSES, PASSES[::-1]])
 
     def test_long_code_of_one_kind(self):
-        many = 20000
+        many = 10000
         transfers = [("xfer", "front", 1), ("xfer", "back", 1)] * many
         tucks = [("tuck", "front", 1, "a"), ("tuck", "front", 2, "a")]
         self.assertEqual(shorten(tucks + transfers, 3, 1, PASSES), tucks)
         self.assertEqual(shorten(tucks + [("rack", k % 2) for k in range(many)], 3, 1, PASSES), tucks)
         idle = [("xfer", "back", k % 3) for k in range(many)] + [("drop", "front", 0)] * many
         self.assertEqual(shorten(tucks + idle, 3, 1, PASSES), tucks)
-        idle = [("xfer", "front", 0)] * many + [("rack", k % 2) for k in range(many)] + [("xfer", "back", 0)] * many
+        idle = [("xfer", "front", 0)] * (4 * many) + [("drop", "front", 0)] + [("rack", k % 2) for k in range(many)]
         for name in PASSES:
-            self.check(tucks + idle + [("rack", 0)] + transfers, 3, 1, [[name]])
-        row = range(0, 3 * many // 10, 3)
+            self.check(tucks + idle + [("rack", 0)] + [("xfer", "back", 0)] * many + transfers, 3, 1, [[name]])
+        row = range(0, 3 * many // 5, 3)
         holds = [("tuck", "front", i, "a") for i in row]
         for i in row:
             holds += [("rack", 0), ("xfer", "front", i), ("rack", 1), ("xfer", "back", i)]
